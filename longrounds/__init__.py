@@ -1,0 +1,1 @@
+"""Longrounds: programs of great repeats, told without doing them."""

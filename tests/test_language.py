@@ -1,0 +1,192 @@
+"""Holds the package's files against those rules of LANGUAGE.md that a look at the syntax can tell."""
+
+import ast
+import builtins
+import pathlib
+import re
+import unittest
+
+PACKAGE = pathlib.Path(__file__).resolve().parent.parent / "longrounds"
+
+STATEMENTS = (
+    ast.FunctionDef, ast.ClassDef, ast.ImportFrom, ast.Assign, ast.AugAssign, ast.If, ast.While, ast.For,
+    ast.Return, ast.Break, ast.Continue, ast.Pass, ast.Raise, ast.Try, ast.Expr,
+)
+OUTSIDE = (
+    ast.Div, ast.MatMult, ast.SetComp, ast.DictComp, ast.GeneratorExp, ast.NamedExpr, ast.Starred,
+    ast.Yield, ast.YieldFrom, ast.Await,
+)
+ALLOWED_BUILTINS = set(
+    "len range enumerate zip min max sum abs sorted reversed int str bool list tuple dict set frozenset isinstance "
+    "ord repr any all divmod Exception ValueError TypeError KeyError IndexError LookupError ZeroDivisionError "
+    "ArithmeticError OverflowError RuntimeError NotImplementedError AttributeError StopIteration".split()
+)
+BUILTINS = set(dir(builtins))
+WORDS = (
+    "type typing typing_extensions enum Enum IntEnum StrEnum Flag IntFlag Generic Protocol ABC ABCMeta namedtuple "
+    "NamedTuple TypedDict TYPE_CHECKING abstractmethod"
+).split()
+WITHIN_WORDS = ("dataclass", "overload", "contextmanager")
+NAMES = set(
+    "register mro elements open input version_info with_traceback add_note attrgetter breakpoint builtins compile "
+    "copyright credits delattr dir eval exec exit gc getattr globals hasattr help id importlib license locals "
+    "methodcaller os quit setattr super sys vars".split()
+)
+METHODS = set(
+    "append clear copy count endswith extend find get index insert isalnum isalpha isdigit islower isspace isupper "
+    "items join keys ljust lower lstrip partition pop remove replace reverse rfind rjust rpartition rsplit rstrip "
+    "setdefault split splitlines startswith strip update upper values zfill bit_length".split()
+)
+
+
+def files():
+    return sorted(PACKAGE.glob("*.py"))
+
+
+def faults_of_text(text):
+    for number, line in enumerate(text.split("\n"), 1):
+        if len(line) > 120:
+            yield number, "L10: a line of more than 120 characters"
+        if re.search(r"[^ -~]", line):
+            yield number, "L14: a sign that is not one from the blank to ~"
+        for word in re.findall(r"\w+", line):
+            if word in WORDS or any(part in word for part in WITHIN_WORDS):
+                yield number, f"L17: the word {word}"
+    if text.count("\n") > 400:
+        yield 400, "L10: more than 400 lines"
+
+
+def bound_names(tree):
+    for node in ast.walk(tree):
+        if isinstance(node, (ast.FunctionDef, ast.ClassDef)):
+            yield node.lineno, node.name
+        elif isinstance(node, ast.arg):
+            yield node.lineno, node.arg
+        elif isinstance(node, ast.Name) and isinstance(node.ctx, ast.Store):
+            yield node.lineno, node.id
+
+
+def faults_of_names(tree):
+    for line, name in bound_names(tree):
+        if name in BUILTINS:
+            yield line, f"L8: {name} given another meaning"
+        if not re.fullmatch(r"[A-Za-z]\w*|__(init|eq|repr|str|len|all|version)__", name):
+            yield line, f"L12: the name {name}"
+    for node in ast.walk(tree):
+        if isinstance(node, ast.Name):
+            if node.id in NAMES:
+                yield node.lineno, f"L17: the name {node.id}"
+            if node.id in BUILTINS and node.id not in ALLOWED_BUILTINS:
+                yield node.lineno, f"L8: the built-in name {node.id}"
+        if isinstance(node, ast.Attribute) and node.attr not in METHODS:
+            yield node.lineno, f"L25: the attribute {node.attr}"
+
+
+def faults_of_statements(tree):
+    for node in ast.walk(tree):
+        if isinstance(node, ast.stmt) and not isinstance(node, STATEMENTS):
+            yield node.lineno, f"L6: the statement {type(node).__name__}"
+        if isinstance(node, ast.Assign) and (len(node.targets) > 1 or isinstance(node.targets[0], ast.Tuple)):
+            yield node.lineno, "L6: more than one target"
+        if isinstance(node, (ast.For, ast.While)) and node.orelse:
+            yield node.lineno, "L6: an else behind a loop"
+        if isinstance(node, ast.Try) and node.finalbody:
+            yield node.lineno, "L6: finally"
+        if isinstance(node, ast.Expr) and not isinstance(node.value, ast.Call) and node is not tree.body[0]:
+            yield node.lineno, "L6: an expression by itself that is no call"
+
+
+def faults_of_expressions(tree):
+    for node in ast.walk(tree):
+        if isinstance(node, OUTSIDE):
+            yield getattr(node, "lineno", 0), f"L7: {type(node).__name__}"
+        if isinstance(node, ast.Constant) and isinstance(node.value, (float, complex, bytes)):
+            yield node.lineno, "L7: a float or bytes"
+        if isinstance(node, ast.Constant) and isinstance(node.value, str) and "%" in node.value:
+            yield node.lineno, "L27: the sign % within a text"
+        if isinstance(node, ast.ListComp) and (len(node.generators) > 1 or len(node.generators[0].ifs) > 1):
+            yield node.lineno, "L7: a comprehension with more than one for or if"
+        if isinstance(node, ast.BinOp) and isinstance(node.op, ast.Pow) and not isinstance(node.right, ast.Constant):
+            yield node.lineno, "L27: a power that is not written out"
+        if isinstance(node, ast.Compare) and any(isinstance(op, (ast.Is, ast.IsNot)) for op in node.ops):
+            beside = [node.left] + node.comparators
+            if not any(isinstance(it, ast.Constant) and it.value in (None, True, False) for it in beside):
+                yield node.lineno, "L20: is"
+
+
+def faults_of_defs(tree):
+    for node in ast.walk(tree):
+        if isinstance(node, ast.FunctionDef):
+            if node.end_lineno - node.lineno + 1 > 40:
+                yield node.lineno, "L10: a function of more than 40 lines"
+            plain = node.args
+            if node.decorator_list or plain.vararg or plain.kwarg or plain.kwonlyargs or plain.posonlyargs:
+                yield node.lineno, "L4: parameters that are not plain, or a decorator"
+        if isinstance(node, ast.ClassDef):
+            if node.decorator_list or node.keywords or len(node.bases) > 1:
+                yield node.lineno, "L5: a decorator or more than one base"
+            if not all(isinstance(part, (ast.FunctionDef, ast.Pass)) for part in node.body):
+                yield node.lineno, "L5: a class body with more than methods"
+
+
+def faults_of_top(tree):
+    names = []
+    for node in tree.body:
+        if isinstance(node, ast.ImportFrom):
+            if node.level or not node.module.startswith("longrounds."):
+                yield node.lineno, "L2: an import from beyond the package"
+            names += [name.asname or name.name for name in node.names]
+        elif isinstance(node, (ast.FunctionDef, ast.ClassDef)):
+            names.append(node.name)
+        elif isinstance(node, ast.Assign):
+            names += [target.id for target in node.targets if isinstance(target, ast.Name)]
+        elif node is not tree.body[0]:
+            yield node.lineno, "L3: something else at the top"
+    for name in set(names):
+        if names.count(name) > 1:
+            yield 1, f"L15: {name} bound more than once"
+
+
+def faults(text):
+    tree = ast.parse(text)
+    checks = (faults_of_names, faults_of_statements, faults_of_expressions, faults_of_defs, faults_of_top)
+    told = list(faults_of_text(text))
+    for check in checks:
+        told += check(tree)
+    return told
+
+
+class LanguageTest(unittest.TestCase):
+    def test_the_folder_holds_python_files_alone(self):
+        for path in PACKAGE.iterdir():
+            if path.name != "__pycache__":
+                self.assertRegex(path.name, r"^([a-z][a-z0-9_]*|__init__)\.py$")
+        self.assertIn("__init__.py", [path.name for path in files()])
+
+    def test_each_file_keeps_to_the_rules(self):
+        for path in files():
+            self.assertEqual(faults(path.read_text(encoding="utf-8")), [], path.name)
+
+    def test_no_two_files_draw_from_one_another(self):
+        drawn = {}
+        for path in files():
+            tree = ast.parse(path.read_text(encoding="utf-8"))
+            rows = [node.module for node in ast.walk(tree) if isinstance(node, ast.ImportFrom)]
+            drawn[path.stem] = [row.split(".")[1] for row in rows]
+        while drawn:
+            free = [name for name in drawn if not any(other in drawn for other in drawn[name])]
+            self.assertTrue(free, f"L16: these draw from one another: {sorted(drawn)}")
+            for name in free:
+                drawn.pop(name)
+
+    def test_the_checks_see_what_is_outside(self):
+        outside = (
+            "import os", "from math import gcd", "from .errors import LongError", "a = b = 1", "a, b = 1, 2",
+            "x = 1 / 2", "x = 1.5", "x = {y for y in z}", "x = sum(y for y in z)", "x = [1 for y in z for w in y]",
+            "def f(*a):\n    pass", "def f(x):\n    'words'", "def f(x):\n    assert x", "def f(id):\n    return 1",
+            "def f(x):\n    return pow(x, 2)", "def f(x):\n    return x ** x", "def f(x):\n    return x is x",
+            "def f(x):\n    return x.sort()", "class A:\n    x = 1", "# type", "x = 1\nx = 2", "_x = 1",
+            "def f(x):\n" + "    x = 1\n" * 40, "# " + "x" * 120, "# \u00e9", "x = '%'", "print(1)",
+        )
+        for text in outside:
+            self.assertNotEqual(faults(text + "\n"), [], text)
