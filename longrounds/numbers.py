@@ -22,12 +22,12 @@ def has_divisor(n):
     return False
 
 
+def is_from(thing, least, most):
+    return is_whole(thing) and least <= thing and thing <= most
+
+
 def is_prime(thing):
-    if not is_whole(thing):
-        return False
-    if thing < LEAST_PRIME or thing > GREATEST_PRIME:
-        return False
-    return not has_divisor(thing)
+    return is_from(thing, LEAST_PRIME, GREATEST_PRIME) and not has_divisor(thing)
 
 
 def prime(thing):

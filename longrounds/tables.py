@@ -12,12 +12,12 @@ def turned(P, table, stand):
     return tuple([worth(P, form, stand) for form in table])
 
 
-def idle_form(many, x):
-    return tuple([1 if place == x else 0 for place in range(many + 1)])
+def one_at(width, place):
+    return tuple([1 if other == place else 0 for other in range(width)])
 
 
 def idle(many):
-    return tuple([idle_form(many, x) for x in range(many)])
+    return tuple([one_at(many + 1, x) for x in range(many)])
 
 
 def column_sum(form, table, place):

@@ -37,6 +37,13 @@ METHODS = set(
     "items join keys ljust lower lstrip partition pop remove replace reverse rfind rjust rpartition rsplit rstrip "
     "setdefault split splitlines startswith strip update upper values zfill bit_length".split()
 )
+WALKS = set("range zip enumerate reversed".split())
+WALK_METHODS = set("items keys values".split())
+WALKERS = set("list tuple dict sorted sum any all enumerate zip min max".split())
+KEYWORDS = {
+    "sorted": {"key", "reverse"}, "min": {"key", "default"}, "max": {"key", "default"}, "sum": {"start"},
+    "enumerate": {"start"}, "zip": {"strict"},
+}
 
 
 def files():
@@ -106,8 +113,9 @@ def faults_of_expressions(tree):
             yield node.lineno, "L27: the sign % within a text"
         if isinstance(node, ast.ListComp) and (len(node.generators) > 1 or len(node.generators[0].ifs) > 1):
             yield node.lineno, "L7: a comprehension with more than one for or if"
-        if isinstance(node, ast.BinOp) and isinstance(node.op, ast.Pow) and not isinstance(node.right, ast.Constant):
-            yield node.lineno, "L27: a power that is not written out"
+        if isinstance(node, ast.BinOp) and isinstance(node.op, ast.Pow):
+            if not isinstance(node.right, ast.Constant) or node.right.value not in range(65):
+                yield node.lineno, "L27: a power that is not written out, from 0 to 64"
         if isinstance(node, ast.Compare) and any(isinstance(op, (ast.Is, ast.IsNot)) for op in node.ops):
             beside = [node.left] + node.comparators
             if not any(isinstance(it, ast.Constant) and it.value in (None, True, False) for it in beside):
@@ -129,6 +137,47 @@ def faults_of_defs(tree):
                 yield node.lineno, "L5: a class body with more than methods"
 
 
+def faults_of_locals(tree):
+    taken = {name.asname or name.name for node in tree.body if isinstance(node, ast.ImportFrom) for name in node.names}
+    taken |= {node.name for node in tree.body if isinstance(node, ast.ClassDef)}
+    for node in ast.walk(tree):
+        if isinstance(node, ast.FunctionDef):
+            for line, name in bound_names(node):
+                if name in taken:
+                    yield line, f"L15: {name} is a class or an import of the file"
+            notes = [node.returns] + [arg.annotation for arg in node.args.args]
+            if any(note is not None for note in notes):
+                yield node.lineno, "L21: an annotation"
+
+
+def is_walk(node):
+    if not isinstance(node, ast.Call):
+        return False
+    if isinstance(node.func, ast.Name):
+        return node.func.id in WALKS
+    return isinstance(node.func, ast.Attribute) and node.func.attr in WALK_METHODS
+
+
+def walked_on_the_spot(node):
+    if isinstance(node, (ast.For, ast.comprehension)):
+        return [node.iter]
+    if isinstance(node, ast.Call) and isinstance(node.func, ast.Name) and node.func.id in WALKERS:
+        return node.args if node.func.id == "zip" else node.args[:1]
+    if isinstance(node, ast.Call) and isinstance(node.func, ast.Attribute) and node.func.attr == "join":
+        return node.args
+    return []
+
+
+def faults_of_calls(tree):
+    fine = [id(walk) for node in ast.walk(tree) for walk in walked_on_the_spot(node)]
+    for node in ast.walk(tree):
+        if is_walk(node) and id(node) not in fine:
+            yield node.lineno, "L23: kept, not walked on the spot"
+        if isinstance(node, ast.Call) and isinstance(node.func, ast.Name) and node.func.id in BUILTINS:
+            if not {word.arg for word in node.keywords} <= KEYWORDS.get(node.func.id, set()):
+                yield node.lineno, f"L22: a keyword at {node.func.id}"
+
+
 def faults_of_top(tree):
     names = []
     for node in tree.body:
@@ -140,6 +189,8 @@ def faults_of_top(tree):
             names.append(node.name)
         elif isinstance(node, ast.Assign):
             names += [target.id for target in node.targets if isinstance(target, ast.Name)]
+            if any(isinstance(part, (ast.BinOp, ast.Call, ast.ListComp)) for part in ast.walk(node.value)):
+                yield node.lineno, "L3: a value that is not plain"
         elif node is not tree.body[0]:
             yield node.lineno, "L3: something else at the top"
     for name in set(names):
@@ -149,7 +200,10 @@ def faults_of_top(tree):
 
 def faults(text):
     tree = ast.parse(text)
-    checks = (faults_of_names, faults_of_statements, faults_of_expressions, faults_of_defs, faults_of_top)
+    checks = (
+        faults_of_names, faults_of_statements, faults_of_expressions, faults_of_defs, faults_of_locals,
+        faults_of_calls, faults_of_top,
+    )
     told = list(faults_of_text(text))
     for check in checks:
         told += check(tree)
@@ -179,6 +233,16 @@ class LanguageTest(unittest.TestCase):
             for name in free:
                 drawn.pop(name)
 
+    def test_each_name_is_drawn_from_the_file_that_defines_it(self):
+        trees = {path.stem: ast.parse(path.read_text(encoding="utf-8")) for path in files()}
+        for stem, tree in trees.items():
+            for node in tree.body:
+                if isinstance(node, ast.ImportFrom):
+                    drawn = trees[node.module.split(".")[1]]
+                    defined = [it.name for it in drawn.body if isinstance(it, (ast.FunctionDef, ast.ClassDef))]
+                    for name in node.names:
+                        self.assertIn(name.name, defined, f"L16: {stem} draws it from elsewhere")
+
     def test_the_checks_see_what_is_outside(self):
         outside = (
             "import os", "from math import gcd", "from .errors import LongError", "a = b = 1", "a, b = 1, 2",
@@ -187,6 +251,11 @@ class LanguageTest(unittest.TestCase):
             "def f(x):\n    return pow(x, 2)", "def f(x):\n    return x ** x", "def f(x):\n    return x is x",
             "def f(x):\n    return x.sort()", "class A:\n    x = 1", "# type", "x = 1\nx = 2", "_x = 1",
             "def f(x):\n" + "    x = 1\n" * 40, "# " + "x" * 120, "# \u00e9", "x = '%'", "print(1)",
+            "x = 10 ** 30", "def f(x):\n    return x ** 65", "def f(x):\n    y = range(x)\n    return y",
+            "def f(x):\n    return x in range(3)", "def f(x):\n    return x.items()", "def f(x: int):\n    return x",
+            "def f(x):\n    return sum([x], key=x)",
+            "from longrounds.tables import worth\ndef f(worth):\n    return worth",
+            "from longrounds.tables import worth\ndef f(x):\n    worth = x\n    return worth",
         )
         for text in outside:
             self.assertNotEqual(faults(text + "\n"), [], text)

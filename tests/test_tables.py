@@ -189,11 +189,3 @@ class HandedInTest(TableTest):
         turned(5, other, (4, 4))
         self.assertEqual(told, (worth(P, one[0], stand), turned(P, one, stand), then(P, one, other)))
         self.assertEqual((one, other, stand), (((1, 2, 3), (4, 5, 6)), ((0, 1, 2), (3, 4, 5)), (2, 6)))
-
-
-class ReadmeTest(TableTest):
-    def test_the_examples_are_true(self):
-        self.assertEqual(worth(7, (2, 3, 1), (4, 5)), 3)
-        self.assertEqual(turned(7, setting(2, 0, (2, 3, 1)), (4, 5)), (3, 5))
-        table = setting(2, 0, (2, 3, 1))
-        self.assertEqual(then(7, table, table), ((4, 2, 3), (0, 1, 0)))

@@ -1,0 +1,44 @@
+"""Tables of programs: all rounds of an again become one table, however many they are."""
+
+from longrounds.tables import idle
+from longrounds.tables import setting
+from longrounds.tables import then
+from longrounds.tables import turned
+
+
+def ladder(P, table, n):
+    rungs = []
+    rung = table
+    for figure in range(n.bit_length()):
+        rungs.append(rung)
+        rung = then(P, rung, rung)
+    return rungs
+
+
+def rounds(P, table, n):
+    # n is the sum of the counts of those rungs at which its figure in twos is 1.
+    # All rungs are rounds of one table, so the order in which they come is free.
+    whole = idle(len(table))
+    left = n
+    for rung in ladder(P, table, n):
+        if left % 2 == 1:
+            whole = then(P, whole, rung)
+        left = left // 2
+    return whole
+
+
+def table_of_item(P, many, item):
+    if item[0] == "set":
+        return setting(many, item[1], item[2])
+    return rounds(P, table_of(P, many, item[2]), item[1])
+
+
+def table_of(P, many, items):
+    whole = idle(many)
+    for item in items:
+        whole = then(P, whole, table_of_item(P, many, item))
+    return whole
+
+
+def after(P, many, items, n, stand):
+    return turned(P, rounds(P, table_of(P, many, items), n), stand)
