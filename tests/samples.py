@@ -3,6 +3,14 @@
 import itertools
 
 PRIMES = (3, 5, 7, 101, 9973)
+MOST = 10**30
+COUNTS = (0, 1, 2, 3, 4, 5, 7, 8, 1000, 2**40 - 1, 2**40, 12345678901234567890, MOST - 1, MOST)
+ADD = ("set", 0, (1, 1))
+DOUBLE = ("set", 0, (2, 0))
+
+
+def again(n, *items):
+    return ("again", n, items)
 
 
 class Spread:
@@ -36,12 +44,35 @@ class Spread:
         return tuple(told)
 
 
+def with_own(items, choice):
+    """The program in which each set has, as the multiple of its own box, what the choice gives for the one it had."""
+    told = []
+    for kind, number, rest in items:
+        if kind == "again":
+            told.append((kind, number, with_own(rest, choice)))
+        else:
+            told.append((kind, number, rest[:number] + (choice(rest[number]),) + rest[number + 1:]))
+    return tuple(told)
+
+
+def without_loss(items):
+    return with_own(items, lambda own: own or 1)
+
+
+def cases(seed):
+    """A spread, and each of the wheels with each number of boxes."""
+    spread = Spread(seed)
+    for P in PRIMES:
+        for many in (1, 2, 3):
+            yield spread, P, many
+
+
 def done_by_hand(P, items, stand):
     """Walks each round, so only for programs whose agains are short."""
     boxes = list(stand)
     for kind, number, rest in items:
         if kind == "set":
-            boxes[number] = (sum(c * n for c, n in zip(rest, boxes)) + rest[-1]) % P
+            boxes[number] = worth_by_hand(P, rest, boxes)
         else:
             for _ in range(number):
                 boxes = list(done_by_hand(P, rest, boxes))
@@ -50,3 +81,26 @@ def done_by_hand(P, items, stand):
 
 def all_stands(P, many):
     return list(itertools.product(range(P), repeat=many))
+
+
+def sample_stands(spread, P, many):
+    """All stands where they are few, else some, the least and the greatest among them."""
+    if P**many <= 125:
+        return all_stands(P, many)
+    ends = [(0,) * many, (P - 1,) * many]
+    return ends + [spread.stand(P, many) for _ in range(20)]
+
+
+def worth_by_hand(P, form, stand):
+    return (sum(c * n for c, n in zip(form, stand)) + form[-1]) % P
+
+
+def total(P, rows, weights):
+    """The sum of the rows by these weights; there is one row at least."""
+    return tuple(sum(w * row[k] for w, row in zip(weights, rows)) % P for k in range(len(rows[0])))
+
+
+def all_sums(P, rows, width):
+    if not rows:
+        return {(0,) * width}
+    return {total(P, rows, weights) for weights in all_stands(P, len(rows))}

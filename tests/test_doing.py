@@ -3,15 +3,7 @@ import unittest
 from longrounds.doing import done
 from longrounds.errors import LongError, Lossy, NoNumber, NoPrime, NoProgram, NoText, TooLong
 from longrounds.programs import deeds_in
-from samples import PRIMES, Spread, done_by_hand
-
-MOST = 10**30
-ADD = ("set", 0, (1, 1))
-DOUBLE = ("set", 0, (2, 0))
-
-
-def again(n, *items):
-    return ("again", n, items)
+from samples import ADD, DOUBLE, MOST, again, cases, done_by_hand
 
 
 class DoingTest(unittest.TestCase):
@@ -84,13 +76,11 @@ class DoneTest(DoingTest):
         self.leads(7, (again(MOST, again(MOST, again(0, ADD))), ADD), (2,), (3,))
 
     def test_as_walked_by_hand(self):
-        spread = Spread(31)
-        for P in PRIMES:
-            for many in (1, 2, 3):
-                for size in (1, 4, 9, 30):
-                    items = spread.items(P, many, size, 3, (0, 1, 2, 3, 4))
-                    stand = spread.stand(P, many)
-                    self.leads(P, items, stand, done_by_hand(P, items, stand))
+        for spread, P, many in cases(31):
+            for size in (1, 4, 9, 30):
+                items = spread.items(P, many, size, 3, (0, 1, 2, 3, 4))
+                stand = spread.stand(P, many)
+                self.leads(P, items, stand, done_by_hand(P, items, stand))
 
     def test_ten_thousand_deeds(self):
         self.leads(9973, (again(10000, ADD),), (0,), (27,))

@@ -2,8 +2,10 @@
 
 import ast
 import builtins
+import io
 import pathlib
 import re
+import tokenize
 import unittest
 
 PACKAGE = pathlib.Path(__file__).resolve().parent.parent / "longrounds"
@@ -37,6 +39,8 @@ METHODS = set(
     "items join keys ljust lower lstrip partition pop remove replace reverse rfind rjust rpartition rsplit rstrip "
     "setdefault split splitlines startswith strip update upper values zfill bit_length".split()
 )
+BESIDE_SETS = (ast.In, ast.NotIn, ast.Eq, ast.NotEq)
+CHANGES = set("append clear extend insert pop remove reverse setdefault update".split())
 WALKS = set("range zip enumerate reversed".split())
 WALK_METHODS = set("items keys values".split())
 WALKERS = set("list tuple dict sorted sum any all enumerate zip min max".split())
@@ -178,6 +182,104 @@ def faults_of_calls(tree):
                 yield node.lineno, f"L22: a keyword at {node.func.id}"
 
 
+def kept_values(tree):
+    """Python's own names and methods where they are neither called nor stand where the rules let them."""
+    fine = set()
+    for node in ast.walk(tree):
+        if isinstance(node, ast.Call):
+            fine.add(id(node.func))
+            fine |= {id(word.value) for word in node.keywords if word.arg == "key"}
+            if isinstance(node.func, ast.Name) and node.func.id == "isinstance":
+                fine |= {id(part) for part in ast.walk(node.args[1])}
+        if isinstance(node, ast.ClassDef):
+            fine |= {id(base) for base in node.bases}
+        if isinstance(node, ast.ExceptHandler) and node.type is not None:
+            fine |= {id(part) for part in ast.walk(node.type)}
+    for node in ast.walk(tree):
+        own = isinstance(node, ast.Name) and node.id in BUILTINS or isinstance(node, ast.Attribute)
+        if own and isinstance(node.ctx, ast.Load) and id(node) not in fine:
+            yield node
+
+
+def faults_of_values(tree):
+    for node in kept_values(tree):
+        yield node.lineno, "L22, L25: a name or a method of Python's own that is not called where it stands"
+    for node in ast.walk(tree):
+        if isinstance(node, ast.FormattedValue):
+            if not isinstance(node.value, ast.Name) or node.format_spec or node.conversion not in (-1, ord("r")):
+                yield node.lineno, "L7: an f-string with more than a plain name"
+
+
+def is_set(node):
+    if isinstance(node, ast.BinOp):
+        return is_set(node.left) or is_set(node.right)
+    called = isinstance(node, ast.Call) and isinstance(node.func, ast.Name) and node.func.id in ("set", "frozenset")
+    return called or isinstance(node, ast.Set)
+
+
+def faults_of_sets(tree):
+    fine = set()
+    for node in ast.walk(tree):
+        beside = []
+        if isinstance(node, ast.Compare) and all(isinstance(op, BESIDE_SETS) for op in node.ops):
+            beside = [node.left] + node.comparators
+        if isinstance(node, ast.Call) and isinstance(node.func, ast.Name) and node.func.id in ("sorted", "len"):
+            beside = [] if node.keywords else node.args
+        fine |= {id(part) for side in beside if is_set(side) for part in ast.walk(side)}
+    for node in ast.walk(tree):
+        if is_set(node) and id(node) not in fine:
+            yield node.lineno, "L24: a set that is kept or walked"
+
+
+def faults_of_errors(tree):
+    for node in ast.walk(tree):
+        if isinstance(node, ast.ExceptHandler):
+            names = [part.id for part in ast.walk(node.type or node) if isinstance(part, ast.Name)]
+            if node.type is None or "Exception" in names or "TypeError" in names:
+                yield node.lineno, "L19: an error that is not taken by its name"
+        if isinstance(node, ast.Raise) and not isinstance(node.exc, ast.Call):
+            yield node.lineno, "L19: an error that is not made on the spot"
+
+
+def walked_names(loop):
+    walked = [loop.iter]
+    if isinstance(loop.iter, ast.Call):
+        walked = list(loop.iter.args)
+        if isinstance(loop.iter.func, ast.Attribute):
+            walked.append(loop.iter.func.value)
+    return {part.id for part in walked if isinstance(part, ast.Name)}
+
+
+def changed_names(part):
+    for node in ast.walk(part):
+        if isinstance(node, ast.Subscript) and isinstance(node.ctx, ast.Store) and isinstance(node.value, ast.Name):
+            yield node.value.id
+        if isinstance(node, ast.Call) and isinstance(node.func, ast.Attribute) and node.func.attr in CHANGES:
+            if isinstance(node.func.value, ast.Name):
+                yield node.func.value.id
+
+
+def faults_of_changes(tree):
+    plain = [node for node in tree.body if isinstance(node, ast.Assign)]
+    top = {target.id for node in plain for target in node.targets if isinstance(target, ast.Name)}
+    if top & set(changed_names(tree)):
+        yield 1, "L15: a list or dict of the top that is changed"
+    for node in plain:
+        for part in ast.walk(node.value):
+            if part is not node.value and isinstance(part, (ast.List, ast.Dict)):
+                yield node.lineno, "L15: a list or dict within another value of the top"
+    for node in ast.walk(tree):
+        if isinstance(node, ast.For):
+            for name in walked_names(node) & {name for part in node.body for name in changed_names(part)}:
+                yield node.lineno, f"L23: {name} is changed while it is walked"
+
+
+def faults_of_escapes(text):
+    for token in tokenize.generate_tokens(io.StringIO(text).readline):
+        if token.type == tokenize.STRING and re.search(r"\\[^nt\\'\"\n]", token.string.replace("\\\\", "")):
+            yield token.start[0], "L27: an escape beyond those for line ends, tabs, quotes and itself"
+
+
 def faults_of_top(tree):
     names = []
     for node in tree.body:
@@ -202,9 +304,9 @@ def faults(text):
     tree = ast.parse(text)
     checks = (
         faults_of_names, faults_of_statements, faults_of_expressions, faults_of_defs, faults_of_locals,
-        faults_of_calls, faults_of_top,
+        faults_of_calls, faults_of_values, faults_of_sets, faults_of_errors, faults_of_changes, faults_of_top,
     )
-    told = list(faults_of_text(text))
+    told = list(faults_of_text(text)) + list(faults_of_escapes(text))
     for check in checks:
         told += check(tree)
     return told
@@ -254,8 +356,33 @@ class LanguageTest(unittest.TestCase):
             "x = 10 ** 30", "def f(x):\n    return x ** 65", "def f(x):\n    y = range(x)\n    return y",
             "def f(x):\n    return x in range(3)", "def f(x):\n    return x.items()", "def f(x: int):\n    return x",
             "def f(x):\n    return sum([x], key=x)",
+            "def f(x):\n    return len", "def f(x):\n    return x.append", "def f(x):\n    return [int, x]",
+            "def f(x):\n    return f'{x + 1}'", "def f(x):\n    return f'{x:3}'", "def f(x):\n    return f'{x!s}'",
+            "def f(x):\n    y = set(x)\n    return y", "def f(x):\n    return [y for y in set(x)]",
+            "def f(x):\n    return {1, x}", "def f(x):\n    return set(x) - set([1])",
+            "def f(x):\n    try:\n        return 1\n    except Exception:\n        return 2",
+            "def f(x):\n    try:\n        return 1\n    except:\n        return 2",
+            "def f(x):\n    raise ValueError", "def f(x):\n    raise x",
+            "def f(x):\n    for y in x:\n        x.append(y)", "def f(x):\n    for y in x:\n        x[y] = 1",
+            "def f(x):\n    for k, y in enumerate(x):\n        x[k] = y",
+            "def f(x):\n    for y, z in x.items():\n        x.pop(y)",
+            "a = [1]\ndef f(x):\n    a.append(x)", "a = {}\ndef f(x):\n    a[x] = 1", "a = [[1]]", "a = ({},)",
+            "a = '\\x41'", "a = '\\u0041'", "a = '\\r'",
             "from longrounds.tables import worth\ndef f(worth):\n    return worth",
             "from longrounds.tables import worth\ndef f(x):\n    worth = x\n    return worth",
         )
         for text in outside:
             self.assertNotEqual(faults(text + "\n"), [], text)
+
+    def test_the_checks_let_pass_what_is_within(self):
+        within = (
+            "a = [(1, 2)]", "a = 'x\\n\\t\\\\y\\''", "def f(x):\n    return len(set(x)) + len(set(x) - set([1]))",
+            "def f(x):\n    return x in {1, 2, 3}", "def f(x):\n    return set(x) == set([1])",
+            "def f(x):\n    return sorted(x, key=len)", "def f(x):\n    return isinstance(x, (int, str))",
+            "def f(x):\n    return f'{x} and {x!r}'", "def f(x):\n    raise ValueError('words')",
+            "def f(x):\n    try:\n        return int(x)\n    except ValueError:\n        return 0",
+            "def f(x):\n    y = []\n    for z in x:\n        y.append(z)\n    return y",
+            "a = [1]\ndef f(x):\n    return a[x]",
+        )
+        for text in within:
+            self.assertEqual(faults(text + "\n"), [], text)

@@ -4,23 +4,7 @@ from longrounds.doing import done
 from longrounds.making import after, ladder, rounds, table_of
 from longrounds.programs import deeds_in, program
 from longrounds.tables import idle, setting, then, turned
-from samples import PRIMES, Spread, all_stands, done_by_hand
-
-MOST = 10**30
-COUNTS = (0, 1, 2, 3, 4, 5, 7, 8, 1000, 2**40 - 1, 2**40, 12345678901234567890, MOST - 1, MOST)
-ADD = ("set", 0, (1, 1))
-DOUBLE = ("set", 0, (2, 0))
-
-
-def again(n, *items):
-    return ("again", n, items)
-
-
-def cases(seed):
-    spread = Spread(seed)
-    for P in PRIMES:
-        for many in (1, 2, 3):
-            yield spread, P, many
+from samples import ADD, COUNTS, DOUBLE, MOST, PRIMES, again, all_stands, cases, done_by_hand
 
 
 def walked(P, table, n):

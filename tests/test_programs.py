@@ -3,15 +3,10 @@ import unittest
 
 from longrounds.errors import LongError, Lossy, NoNumber, NoPrime, NoProgram, NoText, TooLong
 from longrounds.programs import deeds_in, program
-from samples import PRIMES, Spread
+from samples import MOST, PRIMES, Spread, again
 
-MOST = 10**30
 SIXTY = 10**60 - 1
 SET = ("set", 0, (1, 1))
-
-
-def again(n, *items):
-    return ("again", n, items)
 
 
 def as_lists(items):

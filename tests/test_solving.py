@@ -3,21 +3,11 @@ import itertools
 import unittest
 
 from longrounds.solving import idle_sums, solved, steps_form
-from samples import PRIMES, Spread, all_stands
-
-
-def total(P, rows, weights):
-    width = len(rows[0])
-    return tuple(sum(w * row[k] for w, row in zip(weights, rows)) % P for k in range(width))
+from samples import PRIMES, Spread, all_stands, all_sums, total
 
 
 def together(P, row, other):
     return sum(n * m for n, m in zip(row, other)) % P
-
-
-def all_sums(P, rows, width):
-    return {tuple(sum(w * row[k] for w, row in zip(weights, rows)) % P for k in range(width))
-            for weights in itertools.product(range(P), repeat=len(rows))}
 
 
 def some_steps(spread, P, width, rank):

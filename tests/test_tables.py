@@ -1,28 +1,7 @@
 import unittest
 
 from longrounds.tables import idle, setting, then, turned, worth
-from samples import PRIMES, Spread, all_stands
-
-
-def worth_by_hand(P, form, stand):
-    total = form[-1]
-    for multiple, number in zip(form, stand):
-        total += multiple * number
-    return total % P
-
-
-def sample_stands(spread, P, many):
-    if P**many <= 125:
-        return all_stands(P, many)
-    ends = [(0,) * many, (P - 1,) * many]
-    return ends + [spread.stand(P, many) for _ in range(20)]
-
-
-def cases():
-    spread = Spread(11)
-    for P in PRIMES:
-        for many in (1, 2, 3):
-            yield spread, P, many
+from samples import PRIMES, cases, sample_stands, worth_by_hand
 
 
 class TableTest(unittest.TestCase):
@@ -58,7 +37,7 @@ class WorthTest(TableTest):
         self.assertEqual(worth(9973, (0, 0, 0, 0), (9972, 9972, 9972)), 0)
 
     def test_the_worth_is_on_the_wheel(self):
-        for spread, P, many in cases():
+        for spread, P, many in cases(11):
             form = spread.form(P, many)
             for stand in sample_stands(spread, P, many):
                 told = worth(P, form, stand)
@@ -80,7 +59,7 @@ class TurnedTest(TableTest):
         self.assertEqual(turned(101, ((1, 1, 1, 1), (1, 1, 1, 2), (1, 1, 1, 3)), (30, 40, 50)), (20, 21, 22))
 
     def test_each_box_has_its_form_worth(self):
-        for spread, P, many in cases():
+        for spread, P, many in cases(11):
             table = spread.table(P, many)
             for stand in sample_stands(spread, P, many):
                 told = turned(P, table, stand)
@@ -95,7 +74,7 @@ class IdleTest(TableTest):
         self.assertEqual(idle(3), ((1, 0, 0, 0), (0, 1, 0, 0), (0, 0, 1, 0)))
 
     def test_each_stand_is_left_as_it_is(self):
-        for spread, P, many in cases():
+        for spread, P, many in cases(11):
             self.is_table(P, many, idle(many))
             for stand in sample_stands(spread, P, many):
                 self.assertEqual(turned(P, idle(many), stand), stand)
@@ -120,7 +99,7 @@ class ThenTest(TableTest):
         self.assertEqual(then(11, other, one), ((0, 1, 0, 1), (0, 0, 1, 2), (2, 0, 0, 2)))
 
     def test_each_stand_goes_through_the_first_and_then_the_other(self):
-        for spread, P, many in cases():
+        for spread, P, many in cases(11):
             for _ in range(4):
                 one = spread.table(P, many)
                 other = spread.table(P, many)
@@ -137,7 +116,7 @@ class ThenTest(TableTest):
                 self.assertEqual(then(P, full, full), (told,) * many)
 
     def test_grouping_does_not_matter(self):
-        for spread, P, many in cases():
+        for spread, P, many in cases(11):
             for _ in range(4):
                 one, two, three = [spread.table(P, many) for _ in range(3)]
                 early = then(P, then(P, one, two), three)
@@ -145,7 +124,7 @@ class ThenTest(TableTest):
                 self.assertEqual(early, late)
 
     def test_the_idle_table_changes_nothing(self):
-        for spread, P, many in cases():
+        for spread, P, many in cases(11):
             table = spread.table(P, many)
             self.assertEqual(then(P, idle(many), table), table)
             self.assertEqual(then(P, table, idle(many)), table)
@@ -162,7 +141,7 @@ class SettingTest(TableTest):
         self.assertEqual(setting(3, 2, (5, 6, 7, 8)), ((1, 0, 0, 0), (0, 1, 0, 0), (5, 6, 7, 8)))
 
     def test_its_box_has_the_worth_and_the_others_are_left(self):
-        for spread, P, many in cases():
+        for spread, P, many in cases(11):
             for x in range(many):
                 form = spread.form(P, many)
                 table = setting(many, x, form)
