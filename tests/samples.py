@@ -1,6 +1,7 @@
 """Tables, forms and stands for the tests: spread over the wheel, and the same in each run."""
 
 import itertools
+import unittest
 
 PRIMES = (3, 5, 7, 101, 9973)
 MOST = 10**30
@@ -104,3 +105,30 @@ def all_sums(P, rows, width):
     if not rows:
         return {(0,) * width}
     return {total(P, rows, weights) for weights in all_stands(P, len(rows))}
+
+
+class WheelTest(unittest.TestCase):
+    """Holds what is told against its kind: tuples of one width, with numbers on the wheel."""
+
+    def is_row(self, P, width, row):
+        self.assertIs(type(row), tuple)
+        self.assertEqual(len(row), width)
+        for number in row:
+            self.assertIs(type(number), int)
+            self.assertIn(number, range(P))
+
+    def is_table(self, P, many, table):
+        self.assertIs(type(table), tuple)
+        self.assertEqual(len(table), many)
+        for form in table:
+            self.is_row(P, many + 1, form)
+
+    def in_steps_form(self, P, width, rows):
+        self.assertIs(type(rows), list)
+        last = -1
+        for row in rows:
+            self.is_row(P, width, row)
+            lead = [place for place in range(width) if row[place]][0]
+            self.assertGreater(lead, last)
+            self.assertEqual([other[lead] for other in rows], [int(other is row) for other in rows])
+            last = lead

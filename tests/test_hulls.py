@@ -1,10 +1,8 @@
-import unittest
-
 from longrounds.hulls import hull, placed
 from longrounds.making import after
 from longrounds.solving import steps_form
 from samples import (
-    ADD, COUNTS, DOUBLE, MOST, PRIMES, again, all_stands, cases, done_by_hand, total, worth_by_hand,
+    ADD, COUNTS, DOUBLE, MOST, PRIMES, WheelTest, again, all_stands, cases, done_by_hand, total, worth_by_hand,
 )
 
 STEP = (("set", 0, (1, 0, 1)), ("set", 1, (0, 1, 2)))
@@ -37,14 +35,7 @@ def great_cases(seed):
             yield spread, P, many, spread.items(P, many, size, 3, COUNTS), spread.stand(P, many)
 
 
-class HullsTest(unittest.TestCase):
-    def is_row(self, P, width, row):
-        self.assertIs(type(row), tuple)
-        self.assertEqual(len(row), width)
-        for number in row:
-            self.assertIs(type(number), int)
-            self.assertIn(number, range(P))
-
+class HullsTest(WheelTest):
     def leads_to(self, P, stands, weights, stand):
         self.is_row(P, len(stands), weights)
         self.assertEqual(sum(weights) % P, 1)

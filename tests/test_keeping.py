@@ -1,10 +1,9 @@
-import unittest
-
 from longrounds.keeping import kept
 from longrounds.making import rounds, table_of
 from longrounds.tables import turned
 from samples import (
-    ADD, COUNTS, DOUBLE, MOST, PRIMES, again, all_stands, all_sums, cases, done_by_hand, sample_stands, worth_by_hand,
+    ADD, COUNTS, DOUBLE, MOST, PRIMES, WheelTest, again, all_stands, all_sums, cases, done_by_hand, sample_stands,
+    worth_by_hand,
 )
 
 # Adds 1 to the one box and 2 to the other.
@@ -23,25 +22,11 @@ def small_programs(seed, counts):
                 yield P, many, spread.items(P, many, 1 + spread.number(7), 2, counts)
 
 
-class KeptTest(unittest.TestCase):
-    def in_steps_form(self, P, many, forms):
-        self.assertIs(type(forms), list)
-        last = -1
-        for form in forms:
-            self.assertIs(type(form), tuple)
-            self.assertEqual(len(form), many + 1)
-            for number in form:
-                self.assertIs(type(number), int)
-                self.assertIn(number, range(P))
-            lead = [place for place in range(many + 1) if form[place]][0]
-            self.assertGreater(lead, last)
-            self.assertEqual([other[lead] for other in forms], [int(other is form) for other in forms])
-            last = lead
-
+class KeptTest(WheelTest):
     def keeps(self, P, many, items, *forms):
         told = kept(P, many, items)
         self.assertEqual(told, list(forms))
-        self.in_steps_form(P, many, told)
+        self.in_steps_form(P, many + 1, told)
 
     def test_no_items_keep_every_form(self):
         for P in PRIMES:
@@ -89,7 +74,7 @@ class KeptTest(unittest.TestCase):
             for size in (1, 2, 5, 30):
                 items = spread.items(P, many, size, 3, COUNTS)
                 told = kept(P, many, items)
-                self.in_steps_form(P, many, told)
+                self.in_steps_form(P, many + 1, told)
                 for n in (1, 2, MOST):
                     table = rounds(P, table_of(P, many, items), n)
                     for stand in sample_stands(spread, P, many):
@@ -102,7 +87,7 @@ class KeptTest(unittest.TestCase):
         for P, many, items in small_programs(93, (0, 1, 2, 3)):
             ends = {stand: done_by_hand(P, items, stand) for stand in all_stands(P, many)}
             told = kept(P, many, items)
-            self.in_steps_form(P, many, told)
+            self.in_steps_form(P, many + 1, told)
             same = {form for form in all_stands(P, many + 1)
                     if all(worth_by_hand(P, form, ends[stand]) == worth_by_hand(P, form, stand) for stand in ends)}
             self.assertEqual(all_sums(P, told, many + 1), same)

@@ -1,10 +1,8 @@
-import unittest
-
 from longrounds.doing import done
 from longrounds.making import after, ladder, rounds, table_of
 from longrounds.programs import deeds_in, program
 from longrounds.tables import idle, setting, then, turned
-from samples import ADD, COUNTS, DOUBLE, MOST, PRIMES, again, all_stands, cases, done_by_hand
+from samples import ADD, COUNTS, DOUBLE, MOST, PRIMES, WheelTest, again, all_stands, cases, done_by_hand
 
 
 def walked(P, table, n):
@@ -14,19 +12,7 @@ def walked(P, table, n):
     return whole
 
 
-class MakingTest(unittest.TestCase):
-    def is_table(self, P, many, table):
-        self.assertIs(type(table), tuple)
-        self.assertEqual(len(table), many)
-        for form in table:
-            self.assertIs(type(form), tuple)
-            self.assertEqual(len(form), many + 1)
-            for number in form:
-                self.assertIs(type(number), int)
-                self.assertIn(number, range(P))
-
-
-class LadderTest(MakingTest):
+class LadderTest(WheelTest):
     def test_none_for_nothing(self):
         self.assertEqual(ladder(7, ((2, 3),), 0), [])
 
@@ -76,7 +62,7 @@ class LadderTest(MakingTest):
         self.assertEqual(rounds(7, table, 9), walked(7, table, 9))
 
 
-class RoundsTest(MakingTest):
+class RoundsTest(WheelTest):
     def test_by_hand(self):
         self.assertEqual(rounds(101, ((1, 1),), 24), ((1, 24),))
         self.assertEqual(rounds(101, ((1, 1),), MOST), ((1, MOST % 101),))
@@ -134,7 +120,7 @@ class RoundsTest(MakingTest):
                 self.assertEqual(rounds(7, idle(many), n), idle(many))
 
 
-class TableOfTest(MakingTest):
+class TableOfTest(WheelTest):
     def test_no_items(self):
         for P in PRIMES:
             for many in (1, 2, 3):
@@ -187,7 +173,7 @@ class TableOfTest(MakingTest):
             self.is_table(P, many, table_of(P, many, items))
 
 
-class AfterTest(MakingTest):
+class AfterTest(WheelTest):
     def test_by_hand(self):
         self.assertEqual(after(101, 1, (ADD, DOUBLE), 3, (5,)), (54,))
         self.assertEqual(after(101, 1, (ADD,), MOST, (5,)), ((5 + MOST) % 101,))

@@ -1,9 +1,8 @@
 import copy
 import itertools
-import unittest
 
 from longrounds.solving import idle_sums, solved, steps_form
-from samples import PRIMES, Spread, all_stands, all_sums, total
+from samples import PRIMES, Spread, WheelTest, all_stands, all_sums, total
 
 
 def together(P, row, other):
@@ -58,26 +57,7 @@ def small_rows():
                 yield list(rows), width
 
 
-class SolvingTest(unittest.TestCase):
-    def is_row(self, P, width, row):
-        self.assertIs(type(row), tuple)
-        self.assertEqual(len(row), width)
-        for number in row:
-            self.assertIs(type(number), int)
-            self.assertIn(number, range(P))
-
-    def in_steps_form(self, P, width, rows):
-        self.assertIs(type(rows), list)
-        last = -1
-        for row in rows:
-            self.is_row(P, width, row)
-            lead = [place for place in range(width) if row[place]][0]
-            self.assertGreater(lead, last)
-            self.assertEqual([other[lead] for other in rows], [1 if other is row else 0 for other in rows])
-            last = lead
-
-
-class StepsFormTest(SolvingTest):
+class StepsFormTest(WheelTest):
     def test_by_hand(self):
         self.assertEqual(steps_form(7, [(3,)]), [(1,)])
         self.assertEqual(steps_form(7, [(2, 4)]), [(1, 2)])
@@ -129,7 +109,7 @@ class StepsFormTest(SolvingTest):
         self.assertEqual(steps_form(7, [(7, -1), (14, 8)]), [(0, 1)])
 
 
-class IdleSumsTest(SolvingTest):
+class IdleSumsTest(WheelTest):
     def test_by_hand(self):
         self.assertEqual(idle_sums(7, [(1, 2), (2, 4)]), [(1, 3)])
         self.assertEqual(idle_sums(7, [(1, 0), (0, 1), (1, 1)]), [(1, 1, 6)])
@@ -165,7 +145,7 @@ class IdleSumsTest(SolvingTest):
             self.assertEqual(all_sums(3, told, len(rows)), idle)
 
 
-class SolvedTest(SolvingTest):
+class SolvedTest(WheelTest):
     def told_right(self, P, rows, goal):
         told = solved(P, rows, goal)
         self.assertIs(type(told), tuple)
@@ -228,7 +208,7 @@ class SolvedTest(SolvingTest):
                 self.assertEqual(self.told_right(3, rows, goal), "sum" if goal in sums else "shut")
 
 
-class OwnTest(SolvingTest):
+class OwnTest(WheelTest):
     def test_what_is_handed_in_stays(self):
         for spread, P, rows, steps in cases(70):
             goal = spread.stand(P, len(rows[0]))

@@ -1,25 +1,8 @@
-import unittest
-
 from longrounds.tables import idle, setting, then, turned, worth
-from samples import PRIMES, cases, sample_stands, worth_by_hand
+from samples import PRIMES, WheelTest, cases, sample_stands, worth_by_hand
 
 
-class TableTest(unittest.TestCase):
-    def is_stand(self, P, many, stand):
-        self.assertIs(type(stand), tuple)
-        self.assertEqual(len(stand), many)
-        for number in stand:
-            self.assertIs(type(number), int)
-            self.assertIn(number, range(P))
-
-    def is_table(self, P, many, table):
-        self.assertIs(type(table), tuple)
-        self.assertEqual(len(table), many)
-        for form in table:
-            self.is_stand(P, many + 1, form)
-
-
-class WorthTest(TableTest):
+class WorthTest(WheelTest):
     def test_one_box(self):
         self.assertEqual(worth(7, (3, 4), (5,)), 5)
         self.assertEqual(worth(7, (0, 4), (5,)), 4)
@@ -46,7 +29,7 @@ class WorthTest(TableTest):
                 self.assertEqual(told, worth_by_hand(P, form, stand))
 
 
-class TurnedTest(TableTest):
+class TurnedTest(WheelTest):
     def test_one_box(self):
         self.assertEqual(turned(7, ((3, 4),), (5,)), (5,))
         self.assertEqual(turned(7, ((0, 0),), (5,)), (0,))
@@ -63,11 +46,11 @@ class TurnedTest(TableTest):
             table = spread.table(P, many)
             for stand in sample_stands(spread, P, many):
                 told = turned(P, table, stand)
-                self.is_stand(P, many, told)
+                self.is_row(P, many, told)
                 self.assertEqual(told, tuple(worth_by_hand(P, form, stand) for form in table))
 
 
-class IdleTest(TableTest):
+class IdleTest(WheelTest):
     def test_the_tables(self):
         self.assertEqual(idle(1), ((1, 0),))
         self.assertEqual(idle(2), ((1, 0, 0), (0, 1, 0)))
@@ -80,7 +63,7 @@ class IdleTest(TableTest):
                 self.assertEqual(turned(P, idle(many), stand), stand)
 
 
-class ThenTest(TableTest):
+class ThenTest(WheelTest):
     def test_the_first_table_goes_first(self):
         self.assertEqual(then(7, ((2, 0),), ((1, 3),)), ((2, 3),))
         self.assertEqual(then(7, ((1, 3),), ((2, 0),)), ((2, 6),))
@@ -131,7 +114,7 @@ class ThenTest(TableTest):
             self.assertEqual(then(P, idle(many), idle(many)), idle(many))
 
 
-class SettingTest(TableTest):
+class SettingTest(WheelTest):
     def test_the_tables(self):
         self.assertEqual(setting(1, 0, (5, 6)), ((5, 6),))
         self.assertEqual(setting(2, 0, (5, 6, 7)), ((5, 6, 7), (0, 1, 0)))
@@ -159,7 +142,7 @@ class SettingTest(TableTest):
         self.assertEqual(idle(2), ((1, 0, 0), (0, 1, 0)))
 
 
-class HandedInTest(TableTest):
+class HandedInTest(WheelTest):
     def test_asking_again_in_another_order_tells_the_same(self):
         P, one, other, stand = 7, ((1, 2, 3), (4, 5, 6)), ((0, 1, 2), (3, 4, 5)), (2, 6)
         told = (worth(P, one[0], stand), turned(P, one, stand), then(P, one, other))
