@@ -15,15 +15,16 @@ def ladder(P, table, n):
     return rungs
 
 
-def rounds(P, table, n):
+def rungs_for(rungs, n):
     # n is the sum of the counts of those rungs at which its figure in twos is 1.
     # All rungs are rounds of one table, so the order in which they come is free.
+    return [rung for place, rung in enumerate(rungs) if (n >> place) % 2 == 1]
+
+
+def rounds(P, table, n):
     whole = idle(len(table))
-    left = n
-    for rung in ladder(P, table, n):
-        if left % 2 == 1:
-            whole = then(P, whole, rung)
-        left = left // 2
+    for rung in rungs_for(ladder(P, table, n), n):
+        whole = then(P, whole, rung)
     return whole
 
 

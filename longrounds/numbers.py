@@ -12,14 +12,14 @@ def is_whole(thing):
     return isinstance(thing, int) and not isinstance(thing, bool)
 
 
-def has_divisor(n):
+def least_divisor(n):
     # A product has a divisor that is not above its root, so none beyond is asked.
     divisor = 2
     while divisor * divisor <= n:
         if n % divisor == 0:
-            return True
+            return divisor
         divisor = divisor + 1
-    return False
+    return n
 
 
 def is_from(thing, least, most):
@@ -27,7 +27,7 @@ def is_from(thing, least, most):
 
 
 def is_prime(thing):
-    return is_from(thing, LEAST_PRIME, GREATEST_PRIME) and not has_divisor(thing)
+    return is_from(thing, LEAST_PRIME, GREATEST_PRIME) and least_divisor(thing) == thing
 
 
 def prime(thing):

@@ -1,13 +1,20 @@
 """Tables, forms and stands for the tests: spread over the wheel, and the same in each run."""
 
+import copy
 import itertools
 import unittest
 
+from longrounds.errors import LongError, Lossy, NoNumber, NoPrime, NoProgram, NoText, TooLong
+
+REFUSALS = (NoPrime, NoNumber, NoProgram, TooLong, Lossy, NoText)
 PRIMES = (3, 5, 7, 101, 9973)
 MOST = 10**30
 COUNTS = (0, 1, 2, 3, 4, 5, 7, 8, 1000, 2**40 - 1, 2**40, 12345678901234567890, MOST - 1, MOST)
 ADD = ("set", 0, (1, 1))
 DOUBLE = ("set", 0, (2, 0))
+GROW = (("set", 0, (1, 1, 0)), ("set", 1, (1, 1, 0)))
+# Each box takes on the number of the next one, and the last one 5.
+PASS_ON = (("set", 0, (0, 1, 0, 0)), ("set", 1, (0, 0, 1, 0)), ("set", 2, (0, 0, 0, 5)))
 
 
 def again(n, *items):
@@ -80,6 +87,15 @@ def done_by_hand(P, items, stand):
     return tuple(boxes)
 
 
+def walked_by_hand(step, stand):
+    """All stands that are come to, each with its least count of rounds, and the counts of the tail and the ring."""
+    counts = {}
+    while stand not in counts:
+        counts[stand] = len(counts)
+        stand = step(stand)
+    return counts, counts[stand], len(counts) - counts[stand]
+
+
 def all_stands(P, many):
     return list(itertools.product(range(P), repeat=many))
 
@@ -107,7 +123,19 @@ def all_sums(P, rows, width):
     return {total(P, rows, weights) for weights in all_stands(P, len(rows))}
 
 
-class WheelTest(unittest.TestCase):
+class RefusalTest(unittest.TestCase):
+    def refused(self, refusal, asked, *handed):
+        ahead = copy.deepcopy(handed)
+        with self.assertRaises(refusal) as taken:
+            asked(*handed)
+        self.assertIs(type(taken.exception), refusal)
+        self.assertIsInstance(taken.exception, LongError)
+        self.assertIsInstance(taken.exception, ValueError)
+        self.assertNotIsInstance(taken.exception, tuple(other for other in REFUSALS if other is not refusal))
+        self.assertEqual(handed, ahead)
+
+
+class WheelTest(RefusalTest):
     """Holds what is told against its kind: tuples of one width, with numbers on the wheel."""
 
     def is_row(self, P, width, row):

@@ -1,12 +1,10 @@
-import unittest
-
 from longrounds.doing import done
-from longrounds.errors import LongError, Lossy, NoNumber, NoPrime, NoProgram, NoText, TooLong
+from longrounds.errors import TooLong
 from longrounds.programs import deeds_in
-from samples import ADD, DOUBLE, MOST, again, cases, done_by_hand
+from samples import ADD, DOUBLE, MOST, RefusalTest, again, cases, done_by_hand
 
 
-class DoingTest(unittest.TestCase):
+class DoingTest(RefusalTest):
     def leads(self, P, items, stand, end):
         """To the end with just as many deeds let as are done, and with more; not with one fewer."""
         deeds = deeds_in(items)
@@ -22,11 +20,7 @@ class DoingTest(unittest.TestCase):
             self.too_long(P, items, stand, 0)
 
     def too_long(self, P, items, stand, most):
-        with self.assertRaises(TooLong) as taken:
-            done(P, items, stand, most)
-        self.assertIsInstance(taken.exception, LongError)
-        self.assertIsInstance(taken.exception, ValueError)
-        self.assertNotIsInstance(taken.exception, (NoPrime, NoNumber, NoProgram, Lossy, NoText))
+        self.refused(TooLong, done, P, items, stand, most)
 
 
 class DoneTest(DoingTest):

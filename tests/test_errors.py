@@ -1,8 +1,7 @@
 import unittest
 
-from longrounds.errors import LongError, Lossy, NoNumber, NoPrime, NoProgram, NoText, TooLong
-
-REFUSALS = (NoPrime, NoNumber, NoProgram, TooLong, Lossy, NoText)
+from longrounds.errors import LongError
+from samples import REFUSALS
 
 
 class ErrorsTest(unittest.TestCase):

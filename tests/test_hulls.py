@@ -2,13 +2,11 @@ from longrounds.hulls import hull, placed
 from longrounds.making import after
 from longrounds.solving import steps_form
 from samples import (
-    ADD, COUNTS, DOUBLE, MOST, PRIMES, WheelTest, again, all_stands, cases, done_by_hand, total, worth_by_hand,
+    ADD, COUNTS, DOUBLE, GROW, MOST, PASS_ON, PRIMES, WheelTest, again, all_stands, cases, done_by_hand, total,
+    walked_by_hand, worth_by_hand,
 )
 
 STEP = (("set", 0, (1, 0, 1)), ("set", 1, (0, 1, 2)))
-GROW = (("set", 0, (1, 1, 0)), ("set", 1, (1, 1, 0)))
-# Each box takes on the number of the next one, and the last one 5.
-PASS_ON = (("set", 0, (0, 1, 0, 0)), ("set", 1, (0, 0, 1, 0)), ("set", 2, (0, 0, 0, 5)))
 
 
 def sums_of(P, stands):
@@ -159,11 +157,7 @@ class PlacedTest(HullsTest):
         seen = {"sum": 0, "shut": 0}
         for P, many, items, stand in small_cases(104, (0, 1, 2, 3)):
             sums = sums_of(P, hull(P, many, items, stand)[0])
-            come_to = {stand}
-            coming = done_by_hand(P, items, stand)
-            while coming not in come_to:
-                come_to.add(coming)
-                coming = done_by_hand(P, items, coming)
+            come_to = walked_by_hand(lambda each: done_by_hand(P, items, each), stand)[0]
             for goal in all_stands(P, many):
                 told = self.told_right(P, many, items, stand, goal)
                 self.assertEqual(told[0], "sum" if goal in sums else "shut")

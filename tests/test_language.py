@@ -137,8 +137,9 @@ def faults_of_defs(tree):
         if isinstance(node, ast.ClassDef):
             if node.decorator_list or node.keywords or len(node.bases) > 1:
                 yield node.lineno, "L5: a decorator or more than one base"
-            if not all(isinstance(part, (ast.FunctionDef, ast.Pass)) for part in node.body):
-                yield node.lineno, "L5: a class body with more than methods"
+            # Narrower than the rules: with no methods and no values nothing of L18, L26 and L28 is left to ask.
+            if not all(isinstance(part, ast.Pass) for part in node.body):
+                yield node.lineno, "L5, L18, L26, L28: a class that is more than a name"
 
 
 def faults_of_locals(tree):
@@ -231,8 +232,24 @@ def faults_of_sets(tree):
             yield node.lineno, "L24: a set that is kept or walked"
 
 
+def is_let_within_try(node):
+    """Whether a part of what stands round ValueError, LookupError or IndexError is one that the rules let."""
+    if isinstance(node, ast.Call):
+        if isinstance(node.func, ast.Attribute):
+            return node.func.attr in ("index", "remove")
+        return isinstance(node.func, ast.Name) and node.func.id in ("int", "str")
+    if isinstance(node, ast.BinOp):
+        return not isinstance(node.op, (ast.Mult, ast.Pow, ast.Mod, ast.LShift, ast.RShift))
+    return not isinstance(node, (ast.JoinedStr, ast.Slice, ast.Lambda))
+
+
 def faults_of_errors(tree):
     for node in ast.walk(tree):
+        if isinstance(node, ast.Try):
+            taken = {part.id for it in node.handlers for part in ast.walk(it.type or it) if isinstance(part, ast.Name)}
+            within = [part for row in node.body for part in ast.walk(row)]
+            if taken & {"ValueError", "LookupError", "IndexError"} and not all(map(is_let_within_try, within)):
+                yield node.lineno, "L19: an error of Python's own taken round more than what may raise it"
         if isinstance(node, ast.ExceptHandler):
             names = [part.id for part in ast.walk(node.type or node) if isinstance(part, ast.Name)]
             if node.type is None or "Exception" in names or "TypeError" in names:
@@ -342,6 +359,7 @@ class LanguageTest(unittest.TestCase):
                 if isinstance(node, ast.ImportFrom):
                     drawn = trees[node.module.split(".")[1]]
                     defined = [it.name for it in drawn.body if isinstance(it, (ast.FunctionDef, ast.ClassDef))]
+                    defined += [it.targets[0].id for it in drawn.body if isinstance(it, ast.Assign)]
                     for name in node.names:
                         self.assertIn(name.name, defined, f"L16: {stem} draws it from elsewhere")
 
@@ -363,6 +381,10 @@ class LanguageTest(unittest.TestCase):
             "def f(x):\n    try:\n        return 1\n    except Exception:\n        return 2",
             "def f(x):\n    try:\n        return 1\n    except:\n        return 2",
             "def f(x):\n    raise ValueError", "def f(x):\n    raise x",
+            "def f(x):\n    try:\n        return f(x)\n    except ValueError:\n        return 2",
+            "def f(x):\n    try:\n        return int(x[1:])\n    except ValueError:\n        return 2",
+            "def f(x):\n    try:\n        return x[1] * 2\n    except IndexError:\n        return 2",
+            "class A:\n    def f(self):\n        return 1",
             "def f(x):\n    for y in x:\n        x.append(y)", "def f(x):\n    for y in x:\n        x[y] = 1",
             "def f(x):\n    for k, y in enumerate(x):\n        x[k] = y",
             "def f(x):\n    for y, z in x.items():\n        x.pop(y)",
@@ -381,6 +403,8 @@ class LanguageTest(unittest.TestCase):
             "def f(x):\n    return sorted(x, key=len)", "def f(x):\n    return isinstance(x, (int, str))",
             "def f(x):\n    return f'{x} and {x!r}'", "def f(x):\n    raise ValueError('words')",
             "def f(x):\n    try:\n        return int(x)\n    except ValueError:\n        return 0",
+            "def f(x):\n    try:\n        return x[1]\n    except IndexError:\n        return 0",
+            "class A(ValueError):\n    pass\ndef f(x):\n    try:\n        return f(x)\n    except A:\n        return 0",
             "def f(x):\n    y = []\n    for z in x:\n        y.append(z)\n    return y",
             "a = [1]\ndef f(x):\n    return a[x]",
         )

@@ -1,9 +1,9 @@
 import copy
 import unittest
 
-from longrounds.errors import LongError, Lossy, NoNumber, NoPrime, NoProgram, NoText, TooLong
+from longrounds.errors import NoPrime, NoProgram
 from longrounds.programs import deeds_in, program
-from samples import MOST, PRIMES, Spread, again
+from samples import MOST, PRIMES, RefusalTest, Spread, again
 
 SIXTY = 10**60 - 1
 SET = ("set", 0, (1, 1))
@@ -28,7 +28,7 @@ def off_the_wheel(P, items, shift):
     return tuple(told)
 
 
-class ProgramTest(unittest.TestCase):
+class ProgramTest(RefusalTest):
     def is_program(self, P, many, items):
         self.assertIs(type(items), tuple)
         for item in items:
@@ -54,15 +54,7 @@ class ProgramTest(unittest.TestCase):
         self.assertEqual(items, ahead)
 
     def refused(self, refusal, P, many, items):
-        ahead = copy.deepcopy(items)
-        with self.assertRaises(refusal) as taken:
-            program(P, many, items)
-        self.assertIs(type(taken.exception), refusal)
-        self.assertIsInstance(taken.exception, LongError)
-        self.assertIsInstance(taken.exception, ValueError)
-        others = {NoPrime, NoNumber, NoProgram, TooLong, Lossy, NoText} - {refusal}
-        self.assertNotIsInstance(taken.exception, tuple(others))
-        self.assertEqual(items, ahead)
+        super().refused(refusal, program, P, many, items)
 
     def refused_everywhere(self, many, *items):
         """Outermost, behind other items, and within agains, also within one of 0."""

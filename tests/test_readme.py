@@ -29,7 +29,7 @@ def value_of(code, names):
 class ReadmeTest(unittest.TestCase):
     def test_the_examples_are_true(self):
         blocks = re.findall(r"```python\n(.*?)```", README.read_text(encoding="utf-8"), re.DOTALL)
-        self.assertEqual(len(blocks), 5)
+        self.assertEqual(len(blocks), 7)
         names = {}
         for block in blocks:
             exec(block, names)
